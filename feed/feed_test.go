@@ -1,0 +1,91 @@
+package feed
+
+import (
+	"testing"
+
+	"bellows/api"
+)
+
+func TestBitsLowestFirst(t *testing.T) {
+	f := New([]byte{0b10110010, 0b00000001})
+	for i, want := range []int{0, 1, 0, 0, 1, 1, 0, 1, 1, 0, 0, 0, 0, 0, 0, 0} {
+		if got := f.Bit(); got != want {
+			t.Errorf("bit %d is %d, want %d", i, got, want)
+		}
+	}
+}
+
+func TestNumbers(t *testing.T) {
+	f := New([]byte{0b10110010, 0x34, 0x12})
+	for _, c := range []struct{ bits, want int }{{0, 0}, {3, 0b010}, {5, 0b10110}, {16, 0x1234}} {
+		if got := f.Number(c.bits); got != c.want {
+			t.Errorf("number of %d bits is %d, want %d", c.bits, got, c.want)
+		}
+	}
+}
+
+func TestPassByte(t *testing.T) {
+	f := New([]byte{0xff, 0x21, 0x43})
+	f.PassByte()
+	if f.Used() != 0 {
+		t.Errorf("a byte that was not begun is passed over")
+	}
+	f.Bit()
+	if f.Used() != 1 {
+		t.Errorf("Used %d behind one bit", f.Used())
+	}
+	f.PassByte()
+	if got := f.Number(8); got != 0x21 || f.Used() != 2 {
+		t.Errorf("behind a byte that was begun: %x, Used %d", got, f.Used())
+	}
+}
+
+func TestMissingBitsPanic(t *testing.T) {
+	f := New([]byte{0xff})
+	defer func() {
+		if _, ours := recover().(Missing); !ours {
+			t.Errorf("no panic with Missing")
+		}
+	}()
+	f.Number(9)
+}
+
+func TestWholeGoesBack(t *testing.T) {
+	f := New([]byte{0x21, 0x43})
+	f.Number(4)
+	err := f.Whole(func() api.Errno {
+		f.Number(99)
+		return api.OK
+	})
+	if err != api.ErrEnd {
+		t.Errorf("a thing whose bits are missing: %d", err)
+	}
+	if got := f.Number(12); got != 0x432 {
+		t.Errorf("read anew: %x", got)
+	}
+}
+
+func TestWholeStays(t *testing.T) {
+	f := New([]byte{0x21})
+	for _, want := range []api.Errno{api.OK, api.ErrCodes} {
+		err := f.Whole(func() api.Errno {
+			f.Number(4)
+			return want
+		})
+		if err != want {
+			t.Errorf("a whole thing: %d, want %d", err, want)
+		}
+	}
+	if f.at != 8 {
+		t.Errorf("it stands at bit %d", f.at)
+	}
+}
+
+func TestWholeHidesNoFault(t *testing.T) {
+	defer func() {
+		if cause := recover(); cause != "fault" {
+			t.Errorf("another panic became %v", cause)
+		}
+	}()
+	New(nil).Whole(func() api.Errno { panic("fault") })
+}
