@@ -3,36 +3,28 @@ package bellows
 
 import (
 	"bellows/api"
-	"bellows/bare"
 	"bellows/feed"
+	"bellows/wrap"
 )
 
 // Unpack unpacks bytes (P3 to P7).
 func Unpack(kind int, b []byte, most int) api.Result {
-	switch kind {
-	case api.Bare:
-		return unpackBare(b, askedFor(most))
-	case api.Zlib, api.Gzip:
-		return api.Result{}
-	default:
-		return api.Result{Err: api.ErrKind}
+	from := feed.New(b)
+	decoder, err := wrap.New(kind, from, askedFor(most))
+	if err != api.OK {
+		return api.Result{Err: err}
 	}
+	err = decoder.Run()
+	result := api.Result{Err: err, Out: decoder.Out(), Name: decoder.Name()}
+	if err == api.OK {
+		result.Used = from.Used()
+	}
+	return result
 }
 
 // askedFor brings a number of bytes into the bounds of what may be asked for.
 func askedFor(most int) int {
 	return min(max(most, 0), api.MostOut)
-}
-
-func unpackBare(b []byte, most int) api.Result {
-	from := feed.New(b)
-	decoder := bare.New(from, most)
-	err := decoder.Run()
-	result := api.Result{Err: err, Out: decoder.Out()}
-	if err == api.OK {
-		result.Used = from.Used()
-	}
-	return result
 }
 
 // Pack packs bytes (P9).
