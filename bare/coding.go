@@ -17,30 +17,47 @@ type coding struct {
 // firstOrder is the order in which the first lengths are told.
 var firstOrder = [19]int{16, 17, 18, 0, 8, 7, 9, 6, 10, 5, 11, 4, 12, 3, 13, 2, 14, 1, 15}
 
-// The symbols of a row that are no lengths.
+// repetition is a symbol of a row that is no length: how often the length that
+// it means comes at least, and how many bits tell how much oftener.
+type repetition struct{ symbol, least, bits int }
+
+var (
+	again = repetition{16, 3, 2}  // of the length ahead
+	few   = repetition{17, 3, 3}  // of 0
+	many  = repetition{18, 11, 7} // of 0
+)
+
+// How much of each is told at least, and in how many bits a first length is.
 const (
-	againSymbol = 16
-	fewSymbol   = 17
+	leastSymbols   = 257
+	leastDistances = 1
+	leastFirsts    = 4
+	firstBits      = 3
 )
 
 func fixedCoding() *coding {
-	lengths := slices.Concat(
+	ofSymbols, ofDistances := fixedLengths()
+	// these lengths are known to be such as may be
+	symbols, _ := codes.Deal(ofSymbols)
+	distances, _ := codes.Deal(ofDistances)
+	return &coding{symbols: symbols, distances: distances}
+}
+
+func fixedLengths() (symbols, distances []int) {
+	symbols = slices.Concat(
 		slices.Repeat([]int{8}, 144),
 		slices.Repeat([]int{9}, 112),
 		slices.Repeat([]int{7}, 24),
 		slices.Repeat([]int{8}, 8),
 	)
-	// these lengths are known to be such as may be
-	symbols, _ := codes.Deal(lengths)
-	distances, _ := codes.Deal(slices.Repeat([]int{5}, 32))
-	return &coding{symbols: symbols, distances: distances}
+	return symbols, slices.Repeat([]int{5}, 32)
 }
 
 // readCoding reads the codes that a block of type 2 tells.
 func readCoding(from *feed.Feed) (coding, api.Errno) {
-	symbols := from.Number(5) + 257
-	distances := from.Number(5) + 1
-	firsts := from.Number(4) + 4
+	symbols := from.Number(5) + leastSymbols
+	distances := from.Number(5) + leastDistances
+	firsts := from.Number(4) + leastFirsts
 	if symbols > api.Literals || distances > api.Distances {
 		return coding{}, api.ErrCodes
 	}
@@ -58,7 +75,7 @@ func readCoding(from *feed.Feed) (coding, api.Errno) {
 func readFirsts(from *feed.Feed, count int) (codes.Table, api.Errno) {
 	var lengths [len(firstOrder)]int
 	for i := range count {
-		lengths[firstOrder[i]] = from.Number(3)
+		lengths[firstOrder[i]] = from.Number(firstBits)
 	}
 	return codes.Deal(lengths[:])
 }
@@ -73,7 +90,7 @@ func readRow(from *feed.Feed, table codes.Table, size int) ([]int, api.Errno) {
 			return nil, err
 		}
 		// ahead of its number of bits: that there is none ahead does not hang on it
-		if symbol == againSymbol && len(row) == 0 {
+		if symbol == again.symbol && len(row) == 0 {
 			return nil, api.ErrRepeat
 		}
 		length, times := readLengths(from, symbol, row)
@@ -89,16 +106,20 @@ func readRow(from *feed.Feed, table codes.Table, size int) ([]int, api.Errno) {
 
 // readLengths tells which length comes next behind a row, and how often.
 func readLengths(from *feed.Feed, symbol int, row []int) (length, times int) {
-	switch {
-	case symbol < againSymbol:
-		return symbol, 1
-	case symbol == againSymbol:
-		return row[len(row)-1], from.Number(2) + 3
-	case symbol == fewSymbol:
-		return 0, from.Number(3) + 3
+	switch symbol {
+	case again.symbol:
+		return row[len(row)-1], again.readTimes(from)
+	case few.symbol:
+		return 0, few.readTimes(from)
+	case many.symbol:
+		return 0, many.readTimes(from)
 	default:
-		return 0, from.Number(7) + 11
+		return symbol, 1
 	}
+}
+
+func (r repetition) readTimes(from *feed.Feed) int {
+	return r.least + from.Number(r.bits)
 }
 
 func dealRow(symbols, distances []int) (coding, api.Errno) {

@@ -1,4 +1,4 @@
-// Package bare unpacks what has no wrapping: blocks, one after the other.
+// Package bare unpacks and packs what has no wrapping: blocks, one after the other.
 package bare
 
 import (
@@ -22,6 +22,9 @@ const (
 	typeFixed  = 1
 	typeTold   = 2
 )
+
+// mostStored is how many bytes a block of type 0 may have.
+const mostStored = 65535
 
 // Decoder unpacks one whole thing after the other: a block's head, a stored
 // byte, or a symbol with all that belongs to it. Nothing of a thing is put out
@@ -85,7 +88,7 @@ func (d *Decoder) head() api.Errno {
 func (d *Decoder) storedHead() api.Errno {
 	d.from.PassByte()
 	size := d.from.Number(16)
-	if d.from.Number(16) != 65535-size {
+	if d.from.Number(16) != mostStored-size {
 		return api.ErrStored
 	}
 	d.left = size

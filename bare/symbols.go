@@ -3,6 +3,7 @@ package bare
 import (
 	"bellows/api"
 	"bellows/codes"
+	"bellows/copies"
 	"bellows/feed"
 )
 
@@ -14,24 +15,18 @@ const (
 	lastLength    = 285
 )
 
-// The shortest length of a copy, and the one that has a symbol of its own.
-const (
-	shortest = 3
-	longest  = 258
-)
-
 // readLength reads what belongs to a length's symbol: how long the copy is.
 func readLength(from *feed.Feed, symbol int) (int, api.Errno) {
 	switch {
 	case symbol > lastLength:
 		return 0, api.ErrSymbol
 	case symbol == lastLength:
-		return longest, api.OK
+		return copies.Longest, api.OK
 	case symbol < firstWithBits:
-		return symbol - firstLength + shortest, api.OK
+		return symbol - firstLength + copies.Shortest, api.OK
 	}
 	bits := (symbol - 261) / 4
-	least := (4+(symbol-firstWithBits)%4)<<bits + shortest
+	least := (4+(symbol-firstWithBits)%4)<<bits + copies.Shortest
 	return least + from.Number(bits), api.OK
 }
 

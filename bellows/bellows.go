@@ -3,6 +3,7 @@ package bellows
 
 import (
 	"bellows/api"
+	"bellows/bare"
 	"bellows/feed"
 	"bellows/wrap"
 )
@@ -28,7 +29,17 @@ func askedFor(most int) int {
 }
 
 // Pack packs bytes (P9).
-func Pack(kind int, way int, b []byte) ([]byte, api.Errno) { return nil, api.OK }
+func Pack(kind int, way int, b []byte) ([]byte, api.Errno) {
+	switch {
+	case kind < api.Bare || kind > api.Gzip:
+		return nil, api.ErrKind
+	case way < api.Stored || way > api.Best:
+		return nil, api.ErrWay
+	case len(b) > api.MostOut:
+		return nil, api.ErrMuch
+	}
+	return wrap.Around(kind, bare.Pack(way, b), b), api.OK
+}
 
 // Reader unpacks bytes that come in pieces.
 type Reader struct{}

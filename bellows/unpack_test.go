@@ -121,14 +121,11 @@ func TestPiecesTellTheSame(t *testing.T) {
 	}
 }
 
-func TestOtherCallsEnd(t *testing.T) {
-	for _, x := range []int{math.MinInt, -1, 0, 1, 2, 3, math.MaxInt} {
-		for _, y := range []int{math.MinInt, -1, 0, 1, 2, 3, math.MaxInt} {
-			if p, err := bellows.Pack(x, y, nil); err != api.OK && len(p) != 0 {
-				t.Errorf("P1: Pack(%d, %d): error %d with bytes", x, y, err)
-			}
-			if r, err := bellows.NewReader(x, y); err != api.OK && r != nil {
-				t.Errorf("P1: NewReader(%d, %d): error %d with a reader", x, y, err)
+func TestNewReaderEnds(t *testing.T) {
+	for _, kind := range []int{math.MinInt, -1, 0, 1, 2, 3, math.MaxInt} {
+		for _, most := range []int{math.MinInt, -1, 0, 1, 2, 3, math.MaxInt} {
+			if r, err := bellows.NewReader(kind, most); err != api.OK && r != nil {
+				t.Errorf("P1: NewReader(%d, %d): error %d with a reader", kind, most, err)
 			}
 		}
 	}

@@ -1,7 +1,10 @@
-// Package codes deals out codes to symbols and reads them.
+// Package codes deals out codes to symbols, reads them and writes them.
 package codes
 
 import (
+	"iter"
+	"math/bits"
+
 	"bellows/api"
 	"bellows/feed"
 )
@@ -12,6 +15,10 @@ type key uint32
 
 // noBits is the key of a code of which nothing was read.
 const noBits key = 1
+
+func (k key) length() int {
+	return bits.Len32(uint32(k)) - 1
+}
 
 // Table finds symbols by their codes.
 type Table struct {
@@ -57,18 +64,30 @@ func weigh(lengths []int) (count, weight int) {
 
 func deal(lengths []int) Table {
 	table := Table{symbols: map[key]int{}}
-	next := noBits
-	for length := 1; length <= api.MostBits; length++ {
-		next <<= 1
-		for symbol, own := range lengths {
-			if own == length {
-				table.symbols[next] = symbol
-				table.longest = length
+	for code, symbol := range dealt(lengths) {
+		table.symbols[code] = symbol
+		table.longest = code.length()
+	}
+	return table
+}
+
+// dealt goes through the codes and their symbols, the shortest codes first.
+func dealt(lengths []int) iter.Seq2[key, int] {
+	return func(give func(key, int) bool) {
+		next := noBits
+		for length := 1; length <= api.MostBits; length++ {
+			next <<= 1
+			for symbol, own := range lengths {
+				if own != length {
+					continue
+				}
+				if !give(next, symbol) {
+					return
+				}
 				next++
 			}
 		}
 	}
-	return table
 }
 
 // Read reads a code: its symbol, or ErrSymbol as soon as it can be none.

@@ -1,4 +1,5 @@
-// Package wrap unpacks one of a kind: what is bare, and what stands around it.
+// Package wrap unpacks one of a kind, what is bare and what stands around it, and
+// puts that around.
 package wrap
 
 import (
