@@ -41,16 +41,18 @@ type Decoder struct {
 
 // New makes a decoder that puts out at most so many bytes.
 func New(from *feed.Feed, most int) *Decoder {
-	return &Decoder{from: from, out: output{most: most}}
+	return &Decoder{from: from, out: output{room: most}}
 }
 
-// Out is what was put out so far.
-func (d *Decoder) Out() []byte {
-	return d.out.all
+// Run unpacks up to the end of the last block, or to what is wrong, and hands
+// out what it has put out on the way. Behind an early end it can be run again,
+// when more has come.
+func (d *Decoder) Run() ([]byte, api.Errno) {
+	err := d.run()
+	return d.out.take(), err
 }
 
-// Run unpacks up to the end of the last block, or to what is wrong.
-func (d *Decoder) Run() api.Errno {
+func (d *Decoder) run() api.Errno {
 	step := d.step
 	for d.place != atEnd {
 		if err := d.from.Whole(step); err != api.OK {

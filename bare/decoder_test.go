@@ -1,6 +1,8 @@
 package bare
 
 import (
+	"bytes"
+	"math/rand"
 	"testing"
 
 	"bellows/api"
@@ -12,13 +14,45 @@ func TestRunGoesBackToTheLastWholeThing(t *testing.T) {
 	whole := []byte{0x4b, 0x04, 0x00}
 	from := feed.New(whole[:2])
 	d := New(from, 9)
-	for range 2 {
-		if err := d.Run(); err != api.ErrEnd || string(d.Out()) != "a" {
-			t.Errorf("an early end: %d, %q", err, d.Out())
+	for _, want := range []string{"a", "", ""} {
+		if out, err := d.Run(); err != api.ErrEnd || string(out) != want {
+			t.Errorf("an early end: %d, %q, want %q", err, out, want)
 		}
 	}
 	if from.Number(5) != 0 || from.Used() != 2 {
 		t.Errorf("it does not stand behind the code of 97")
+	}
+}
+
+// Packed in each way and handed over byte by byte, it is all put out, and little is kept.
+func TestRunGoesOnWhenMoreHasCome(t *testing.T) {
+	source := rand.New(rand.NewSource(19))
+	text := make([]byte, 3*api.Window)
+	for i := range text {
+		text[i] = byte(source.Intn(1 + i%97))
+	}
+	// copies from as far as may be
+	text = append(text, text[len(text)-api.Window:len(text)-api.Window+1000]...)
+	for way := range 3 {
+		packed := Pack(way, text)
+		from := feed.New(nil)
+		d := New(from, len(text))
+		var all []byte
+		for i := range packed {
+			from.Add(packed[i : i+1])
+			out, err := d.Run()
+			from.Forget()
+			all = append(all, out...)
+			if ended := i == len(packed)-1; ended != (err == api.OK) || !ended && err != api.ErrEnd {
+				t.Fatalf("P8: way %d, byte %d of %d: %d", way, i, len(packed), err)
+			}
+			if len(d.out.kept) > mostKept {
+				t.Fatalf("P8: way %d, byte %d: %d bytes are kept", way, i, len(d.out.kept))
+			}
+		}
+		if !bytes.Equal(all, text) || from.Used() != len(packed) {
+			t.Errorf("P8: way %d: %d bytes became %d, and %d of %d were read", way, len(text), len(all), from.Used(), len(packed))
+		}
 	}
 }
 

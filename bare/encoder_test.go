@@ -15,10 +15,10 @@ import (
 func unpacked(t *testing.T, packed, want []byte) {
 	t.Helper()
 	from := feed.New(packed)
-	d := New(from, api.MostOut)
-	if err := d.Run(); err != api.OK || !bytes.Equal(d.Out(), want) || from.Used() != len(packed) {
+	out, err := New(from, api.MostOut).Run()
+	if err != api.OK || !bytes.Equal(out, want) || from.Used() != len(packed) {
 		t.Errorf("P9: %d bytes became %d, with error %d, and %d of %d were read",
-			len(want), len(d.Out()), err, from.Used(), len(packed))
+			len(want), len(out), err, from.Used(), len(packed))
 	}
 }
 

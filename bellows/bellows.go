@@ -15,8 +15,14 @@ func Unpack(kind int, b []byte, most int) api.Result {
 	if err != api.OK {
 		return api.Result{Err: err}
 	}
-	err = decoder.Run()
-	result := api.Result{Err: err, Out: decoder.Out(), Name: decoder.Name()}
+	return goOn(decoder, from)
+}
+
+// goOn unpacks what there is to read. Used counts from the very beginning, Out
+// is only what was put out now.
+func goOn(decoder *wrap.Decoder, from *feed.Feed) api.Result {
+	out, err := decoder.Run()
+	result := api.Result{Err: err, Out: out, Name: decoder.Name()}
 	if err == api.OK {
 		result.Used = from.Used()
 	}
@@ -40,18 +46,3 @@ func Pack(kind int, way int, b []byte) ([]byte, api.Errno) {
 	}
 	return wrap.Around(kind, bare.Pack(way, b), b), api.OK
 }
-
-// Reader unpacks bytes that come in pieces.
-type Reader struct{}
-
-// NewReader makes a reader (P8).
-func NewReader(kind int, most int) (*Reader, api.Errno) { return nil, api.OK }
-
-// Write gives a reader more bytes; what they put out (P8).
-func (r *Reader) Write(b []byte) ([]byte, api.Errno) { return nil, api.OK }
-
-// Done tells whether all was unpacked, and how many bytes that took (P8).
-func (r *Reader) Done() (bool, int) { return false, 0 }
-
-// Name tells the name that was found (P8).
-func (r *Reader) Name() string { return "" }

@@ -121,16 +121,6 @@ func TestPiecesTellTheSame(t *testing.T) {
 	}
 }
 
-func TestNewReaderEnds(t *testing.T) {
-	for _, kind := range []int{math.MinInt, -1, 0, 1, 2, 3, math.MaxInt} {
-		for _, most := range []int{math.MinInt, -1, 0, 1, 2, 3, math.MaxInt} {
-			if r, err := bellows.NewReader(kind, most); err != api.OK && r != nil {
-				t.Errorf("P1: NewReader(%d, %d): error %d with a reader", kind, most, err)
-			}
-		}
-	}
-}
-
 func TestNothingHandedInIsWrittenInto(t *testing.T) {
 	good, out := mixed()
 	for _, most := range []int{0, 5, len(out)} {

@@ -1,7 +1,11 @@
 // Package feed hands out the bits of bytes, one after the other.
 package feed
 
-import "bellows/api"
+import (
+	"slices"
+
+	"bellows/api"
+)
 
 // Missing is what a read panics with if a bit of it is not there: a thing that
 // takes many reads then needs no way out behind each of them.
@@ -9,13 +13,29 @@ type Missing struct{}
 
 // Feed stands somewhere in bytes, which it only reads.
 type Feed struct {
-	from []byte
-	at   int // counted in bits
+	from      []byte
+	at        int // counted in bits
+	forgotten int // how many bytes were ahead of these
 }
 
 // New makes a feed that stands ahead of the first bit.
 func New(from []byte) *Feed {
 	return &Feed{from: from}
+}
+
+// Add lays more bytes behind those that are there. They are copied: their owner
+// may write into them afterwards.
+func (f *Feed) Add(more []byte) {
+	f.from = slices.Concat(f.from, more)
+}
+
+// Forget drops the bytes that were read whole. Not while a thing is read: it
+// could not be read anew.
+func (f *Feed) Forget() {
+	whole := f.at / 8
+	f.from = slices.Clone(f.from[whole:])
+	f.at -= whole * 8
+	f.forgotten += whole
 }
 
 // Bit reads one bit.
@@ -40,11 +60,16 @@ func (f *Feed) Number(bits int) int {
 
 // PassByte passes over what is left of a byte that was begun.
 func (f *Feed) PassByte() {
-	f.at = f.Used() * 8
+	f.at = f.begun() * 8
 }
 
 // Used tells how many bytes were read, one that was only begun among them.
 func (f *Feed) Used() int {
+	return f.forgotten + f.begun()
+}
+
+// begun is Used without what was forgotten.
+func (f *Feed) begun() int {
 	return (f.at + 7) / 8
 }
 

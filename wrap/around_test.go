@@ -32,9 +32,9 @@ func TestWhatIsAroundIsReadAgain(t *testing.T) {
 		around := Around(kind, packed, b)
 		from := feed.New(around)
 		d, _ := New(kind, from, len(b))
-		if err := d.Run(); err != api.OK || string(d.Out()) != string(b) || from.Used() != len(around) || d.Name() != "" {
+		if out, err := d.Run(); err != api.OK || string(out) != string(b) || from.Used() != len(around) || d.Name() != "" {
 			t.Errorf("P9: kind %d: %d, %d bytes, %d of %d read, name %q",
-				kind, err, len(d.Out()), from.Used(), len(around), d.Name())
+				kind, err, len(out), from.Used(), len(around), d.Name())
 		}
 	}
 }

@@ -18,6 +18,7 @@ type Decoder struct {
 	from  *feed.Feed
 	inner *bare.Decoder
 	parts []part // that are to come, the first one perhaps begun
+	out   []byte // what this run has put out
 	name  string
 }
 
@@ -37,18 +38,22 @@ func New(kind int, from *feed.Feed, most int) (*Decoder, api.Errno) {
 	return d, api.OK
 }
 
-// Out is what was put out so far.
-func (d *Decoder) Out() []byte {
-	return d.inner.Out()
-}
-
 // Name is the name, if it was read to its end.
 func (d *Decoder) Name() string {
 	return d.name
 }
 
-// Run unpacks up to the end of the last part, or to what is wrong.
-func (d *Decoder) Run() api.Errno {
+// Run unpacks up to the end of the last part, or to what is wrong, and hands out
+// what it has put out on the way. Behind an early end it can be run again, when
+// more has come.
+func (d *Decoder) Run() ([]byte, api.Errno) {
+	err := d.run()
+	out := d.out
+	d.out = nil
+	return out, err
+}
+
+func (d *Decoder) run() api.Errno {
 	step := d.step
 	for len(d.parts) > 0 {
 		if err := d.from.Whole(step); err != api.OK {
@@ -67,9 +72,10 @@ func (d *Decoder) step() api.Errno {
 }
 
 // bare is a part of many whole things: at an early end it has gone back to the
-// last of them by itself, and the part is not through.
-func (d *Decoder) bare() (bool, api.Errno) {
-	err := d.inner.Run()
+// last of them by itself, and the part is not through. That ends the run: so a
+// run comes here once at most.
+func (d *Decoder) bare() (through bool, err api.Errno) {
+	d.out, err = d.inner.Run()
 	return err == api.OK, err
 }
 

@@ -20,13 +20,60 @@ func TestRunGoesBackToTheLastWholeThing(t *testing.T) {
 			from := feed.New([]byte(all[:n]))
 			d, _ := New(kind, from, 9)
 			d.Run()
-			used, left, out, name := from.Used(), len(d.parts), string(d.Out()), d.Name()
-			if err := d.Run(); err != api.ErrEnd {
-				t.Errorf("kind %d, %d bytes: %d", kind, n, err)
+			used, left, name := from.Used(), len(d.parts), d.Name()
+			if out, err := d.Run(); err != api.ErrEnd || len(out) != 0 {
+				t.Errorf("kind %d, %d bytes: %d, %q", kind, n, err, out)
 			}
-			if from.Used() != used || len(d.parts) != left || string(d.Out()) != out || d.Name() != name {
+			if from.Used() != used || len(d.parts) != left || d.Name() != name {
 				t.Errorf("kind %d, %d bytes: it went on from an early end", kind, n)
 			}
+		}
+	}
+}
+
+// pieces runs a decoder on bytes that come so many at a time, with none at every
+// other time: all that it put out, and how it ended.
+func pieces(t *testing.T, kind int, all string, size int) (out string, err api.Errno, used int) {
+	from := feed.New(nil)
+	d, _ := New(kind, from, 99)
+	err = api.ErrEnd
+	for i := 0; err == api.ErrEnd && len(all) > 0; i++ {
+		n := i % 2 * min(size, len(all))
+		from.Add([]byte(all[:n]))
+		all = all[n:]
+		var more []byte
+		more, err = d.Run()
+		from.Forget()
+		out += string(more)
+		if d.out != nil {
+			t.Errorf("P2: kind %d: what was handed out is kept", kind)
+		}
+	}
+	return out, err, from.Used()
+}
+
+// What stands behind the bare bytes is held against what all runs together have
+// put out.
+func TestTailsOfPieces(t *testing.T) {
+	const bare = "\x00\x03\x00\xfc\xffabc\x01\x02\x00\xfd\xffde"
+	for kind := range 3 {
+		whole := string(Around(kind, []byte(bare), []byte("abcde")))
+		for size := 1; size <= len(whole); size++ {
+			if out, err, used := pieces(t, kind, whole, size); out != "abcde" || err != api.OK || used != len(whole) {
+				t.Errorf("P8: kind %d, %d at a time: %q, %d, %d of %d read", kind, size, out, err, used, len(whole))
+			}
+			if kind == api.Bare {
+				continue
+			}
+			wrong := string(Around(kind, []byte(bare), []byte("abcdf")))
+			if out, err, _ := pieces(t, kind, wrong, size); out != "abcde" || err != api.ErrSum {
+				t.Errorf("P8: kind %d, %d at a time, with a wrong tail: %q, %d", kind, size, out, err)
+			}
+		}
+	}
+	for size := 1; size <= len(gzipA); size++ {
+		if out, err, used := pieces(t, api.Gzip, gzipA, size); out != "a" || err != api.OK || used != len(gzipA) {
+			t.Errorf("P8: a Gzip, %d at a time: %q, %d, %d of %d read", size, out, err, used, len(gzipA))
 		}
 	}
 }

@@ -21,6 +21,8 @@ type gzip struct {
 	left    int        // how many bytes are still to be passed over
 	head    sums.Check // of the head's bytes so far
 	letters []rune     // of a name whose end has not come
+	check   sums.Check // of what was put out so far
+	size    uint32     // how many bytes that is, modulo 2^32
 }
 
 func gzipParts(d *Decoder) []part {
@@ -33,10 +35,10 @@ func gzipParts(d *Decoder) []part {
 		g.with(flagExtra, g.extraSize), g.with(flagExtra, g.pass),
 		g.with(flagName, g.letter),
 		g.with(flagRemark, g.remark),
-		g.with(flagCheck, g.headCheck),
+		g.with(flagCheck, g.headHolds),
 		g.bare,
-		g.check,
-		g.size,
+		g.checkHolds,
+		g.sizeHolds,
 	}
 }
 
@@ -100,17 +102,25 @@ func (g *gzip) remark() (bool, api.Errno) {
 	return g.headByte() == 0, api.OK
 }
 
-func (g *gzip) headCheck() (bool, api.Errno) {
+func (g *gzip) headHolds() (bool, api.Errno) {
 	told := uint16(g.from.Number(16))
 	return holds(told == uint16(g.head), api.ErrSum)
 }
 
-func (g *gzip) check() (bool, api.Errno) {
-	told := sums.Check(g.from.Number(32))
-	return holds(told == sums.Check(0).With(g.Out()...), api.ErrSum)
+// bare checks and counts what was put out run by run, as it is not kept to the end.
+func (g *gzip) bare() (bool, api.Errno) {
+	through, err := g.Decoder.bare()
+	g.check = g.check.With(g.out...)
+	g.size += uint32(len(g.out))
+	return through, err
 }
 
-func (g *gzip) size() (bool, api.Errno) {
+func (g *gzip) checkHolds() (bool, api.Errno) {
+	told := sums.Check(g.from.Number(32))
+	return holds(told == g.check, api.ErrSum)
+}
+
+func (g *gzip) sizeHolds() (bool, api.Errno) {
 	told := uint32(g.from.Number(32))
-	return holds(told == uint32(len(g.Out())), api.ErrSum)
+	return holds(told == g.size, api.ErrSum)
 }

@@ -12,11 +12,12 @@ const zlibBarred = 32
 type zlib struct {
 	*Decoder
 	first int
+	sum   sums.Sum // of what was put out so far
 }
 
 func zlibParts(d *Decoder) []part {
-	z := &zlib{Decoder: d}
-	return []part{z.firstByte, z.secondByte, z.bare, z.sum}
+	z := &zlib{Decoder: d, sum: sums.NoSum}
+	return []part{z.firstByte, z.secondByte, z.bare, z.sumHolds}
 }
 
 func (z *zlib) firstByte() (bool, api.Errno) {
@@ -30,10 +31,17 @@ func (z *zlib) secondByte() (bool, api.Errno) {
 	return holds(second&zlibBarred == 0 && both%31 == 0, api.ErrHead)
 }
 
-func (z *zlib) sum() (bool, api.Errno) {
+// bare sums up what was put out run by run, as it is not kept to the end.
+func (z *zlib) bare() (bool, api.Errno) {
+	through, err := z.Decoder.bare()
+	z.sum = z.sum.With(z.out...)
+	return through, err
+}
+
+func (z *zlib) sumHolds() (bool, api.Errno) {
 	var told sums.Sum
 	for range 4 {
 		told = 256*told + sums.Sum(z.from.Number(8))
 	}
-	return holds(told == sums.NoSum.With(z.Out()...), api.ErrSum)
+	return holds(told == z.sum, api.ErrSum)
 }
